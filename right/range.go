@@ -2,7 +2,8 @@ package right
 
 import "handover/api"
 
-func keyRange(r api.Range) bool {
+// Range tells whether a range is right.
+func Range(r api.Range) bool {
 	return group(r.Src) && group(r.Dst) && r.Seq >= 1 && r.Lo <= r.Hi && rows(r) && dups(r)
 }
 

@@ -1,4 +1,4 @@
-// Package right: when a message is right: see the section 'Words' of DOC.md.
+// Package right: when a message, and what it is made of, is right: see the section 'Words' of DOC.md.
 package right
 
 import "handover/api"
@@ -10,7 +10,7 @@ func Message(m api.Message) bool {
 	ok := true
 	switch m.Kind {
 	case api.Ask:
-		ok = request(m.Request)
+		ok = Request(m.Request)
 		m.Request = api.Request{}
 	case api.Tell:
 		ok = reply(m.Reply)
@@ -29,7 +29,7 @@ func Message(m api.Message) bool {
 		ok = command(m.Command)
 		m.Slot, m.Command = 0, api.Command{}
 	case api.Move:
-		ok = keyRange(m.Range)
+		ok = Range(m.Range)
 		m.Range = api.Range{}
 	case api.Ack:
 		ok = group(m.Peer)
@@ -55,7 +55,8 @@ func asker(client uint8, seq uint32) bool {
 	return client < api.MaxClients && seq >= 1
 }
 
-func request(q api.Request) bool {
+// Request tells whether a request is right.
+func Request(q api.Request) bool {
 	ok := asker(q.Client, q.Seq)
 	switch q.Kind {
 	case api.Get, api.Delete:
@@ -91,10 +92,10 @@ func command(c api.Command) bool {
 	switch c.Kind {
 	case api.Nop:
 	case api.Client:
-		ok = request(c.Request)
+		ok = Request(c.Request)
 		c.Request = api.Request{}
 	case api.Receive:
-		ok = keyRange(c.Range)
+		ok = Range(c.Range)
 		c.Range = api.Range{}
 	case api.Settle:
 		ok = group(c.Peer)
