@@ -26,17 +26,30 @@ func (r *replica) tick() {
 	}
 }
 
-// campaign takes a ballot that nobody had before: votes of one ballot for one
-// slot must be for one command. Behind the last ballot there is none.
 func (r *replica) campaign() {
-	if r.seen == math.MaxUint32 {
+	if !r.raise() {
 		return
 	}
-	r.seen++
-	r.ballot = api.Ballot{N: r.seen, Id: r.at.Replica}
 	r.role = campaigning
 	maps.Copy(r.met, r.votes)
 	r.countPromise(r.at.Replica)
+}
+
+// raise takes a ballot that nobody had before: votes of one ballot for one slot
+// must be for one command. Behind the last ballot there is none, but the network
+// is full of Prepares long before that. One who is alone sends none, so it keeps
+// its ballot instead: all votes that there are stand in its own record, so that
+// it never votes for a second command for a slot.
+func (r *replica) raise() bool {
+	if r.size == 1 {
+		return true
+	}
+	if r.seen == math.MaxUint32 {
+		return false
+	}
+	r.seen++
+	r.ballot = api.Ballot{N: r.seen, Id: r.at.Replica}
+	return true
 }
 
 func (r *replica) takePrepare(from api.Addr, b api.Ballot) {
